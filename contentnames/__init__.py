@@ -1,0 +1,1 @@
+"""Contentnames: code kept by what it says, names apart."""
