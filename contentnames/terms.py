@@ -97,3 +97,19 @@ def calls_of(term):
 def places_of(term):
     """The places of the term's ring calls, from left to right, each as often as it stands."""
     return [inner[1] for inner in terms_of(term) if inner[0] == "ring"]
+
+
+def with_heads(term, heads):
+    """The term in which each ring call stands as heads has it for its place.
+
+    Heads is a dict; of a place it has the pair of a word and what stands behind the word, ahead of the parts.
+    """
+    parts = tuple([with_heads(part, heads) for part in parts_of(term)])
+    if term[0] == "ring":
+        word, behind = heads[term[1]]
+        return (word, behind, parts)
+    if term[0] == "call":
+        return ("call", term[1], parts)
+    if term[0] in OPERATIONS:
+        return (term[0], *parts)
+    return term

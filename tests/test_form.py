@@ -15,6 +15,15 @@ INTERFACE = {
     "terms": ["is_mark", "is_term", "deep_of", "size_of", "calls_of", "places_of"],
     "termtext": ["term_text", "term_in"],
     "marks": ["mark_of_text"],
+    "groups": ["saying"],
+    "contents": ["is_content", "content_text", "content_in", "mark_of", "turned_to", "calls_in"],
+    "rings": ["rings_of", "contents_of"],
+    "house": ["House"],
+}
+# Of each class the methods that the interface lists for it.
+METHODS = {
+    ("house", "House"): ["put", "content", "has", "marks", "ring", "calls", "called_by", "all_calls", "like",
+                         "__len__", "__eq__"],
 }
 
 
@@ -47,6 +56,11 @@ class TestForm(unittest.TestCase):
             module = importlib.import_module("contentnames." + file)
             for name in names:
                 self.assertEqual(getattr(module, name).__module__, "contentnames." + file)
+
+    def test_each_method_is_defined_in_the_class_itself(self):
+        for (file, name), methods in METHODS.items():
+            for method in methods:
+                self.assertIn(method, vars(getattr(importlib.import_module("contentnames." + file), name)))
 
 
 if __name__ == "__main__":

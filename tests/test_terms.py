@@ -4,10 +4,9 @@ import copy
 import unittest
 
 from contentnames.terms import calls_of, deep_of, is_mark, is_term, places_of, size_of
+from samples import MARK, NUM, things
 
-NUM = ("num", 1)
 ARG = ("arg", 0)
-MARK = "0k3f9a"
 
 
 def nested(deep, word="add"):
@@ -30,19 +29,6 @@ def tree(deep, parts):
     if deep == 1:
         return ("call", MARK, ())
     return ("call", MARK, (tree(deep - 1, parts),) * parts)
-
-
-def things():
-    """Things that are no terms at all, of each kind."""
-    deep_list, deep_tuple = [], ()
-    for _ in range(19):
-        deep_list, deep_tuple = [deep_list], (deep_tuple,)
-    wide = ("add", NUM, NUM)
-    for _ in range(17):
-        wide = ("add", wide, wide)
-    return [0, 1, -1, 10 ** 30, True, False, None, "", "num", "add", "a", MARK, "(add a 1)",
-            [], (), [[]], ((),), [()], ([],), (None,), (True,), (0,), (0, 1), (1, 2, 3), ("",),
-            ((), ()), ([], 1), ([], [], []), (None, 1), (True, 1), ((("num",),), 1), deep_list, deep_tuple, wide]
 
 
 class TestIsMark(unittest.TestCase):

@@ -7,6 +7,7 @@ import unittest
 from contentnames.errors import BadText
 from contentnames.terms import is_term
 from contentnames.termtext import term_in, term_text
+from samples import a_term, with_a_sign_changed
 
 PAIRS = [
     (("num", 0), "0"),
@@ -32,23 +33,6 @@ PAIRS = [
     (("if", ("call", "abcdef", ()), ("ring", 2, (("ring", 2, ()),)), ("num", 0)), "(if (#abcdef) (@2 (@2)) 0)"),
     (("call", "0k3f9a", (("call", "0k3f9a", (("arg", 0),)), ("num", 1))), "(#0k3f9a (#0k3f9a a) 1)"),
 ]
-
-
-def a_term(chance, deep):
-    """Some term that is at most so deep."""
-    word = chance.choice(["num", "arg", "add", "less", "times", "under", "if", "call", "ring"])
-    if deep == 1 and word not in ("num", "arg", "call", "ring"):
-        word = "num"
-    if word == "num":
-        return ("num", chance.choice([0, 1, 9, 10, 99, 1000000, 1000002, chance.randint(0, 1000002)]))
-    if word == "arg":
-        return ("arg", chance.randint(0, 3))
-    if word in ("call", "ring"):
-        parts = tuple(a_term(chance, deep - 1) for _ in range(chance.randint(0, 4) if deep > 1 else 0))
-        if word == "ring":
-            return ("ring", chance.randint(0, 11), parts)
-        return ("call", "".join(chance.choice("0123456789abcdefghijklmnopqrstuvwxyz") for _ in range(6)), parts)
-    return (word,) + tuple(a_term(chance, deep - 1) for _ in range(3 if word == "if" else 2))
 
 
 def some_terms(many):
@@ -117,13 +101,7 @@ class TestTermIn(unittest.TestCase):
 
     def test_a_sign_more_fewer_or_another(self):
         texts = [text for _, text in PAIRS] + [term_text(term) for term in some_terms(40) if len(term_text(term)) < 80]
-        changed = {}
-        for text in texts:
-            for at in range(len(text) + 1):
-                changed[text[:at] + text[at + 1:]] = True
-                for sign in " ()#@019az;:A-\n\u0663":
-                    changed[text[:at] + sign + text[at:]] = True
-                    changed[text[:at] + sign + text[at + 1:]] = True
+        changed = with_a_sign_changed(texts, " ()#@019az;:A-\n\u0663")
         told = 0
         for text in changed:
             try:
