@@ -36,21 +36,23 @@ def leads_of(bodies):
 def met_from(start, leads):
     """The places that are come to from start, itself first, in the order in which a queue meets them."""
     queue = [start]
+    met = {start: True}
     front = 0
     while front < len(queue):
         named = leads[queue[front]]
         for place in named:
-            if place not in queue:
+            if place not in met:
+                met[place] = True
                 queue.append(place)
         front += 1
     return queue
 
 
 def with_all_heads(bodies, heads):
-    """The bodies in which each ring call stands as heads has it for its place."""
+    """The bodies in which each call stands as heads has it."""
     return [(many, with_heads(term, heads)) for many, term in bodies]
 
 
 def ring_heads(places):
     """The heads by which the ring calls of these places are ring calls of 0, 1 and so on."""
-    return {place: ("ring", number) for number, place in enumerate(places)}
+    return {("ring", place): ("ring", number) for number, place in enumerate(places)}

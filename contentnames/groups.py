@@ -17,7 +17,7 @@ def saying(bodies):
 
 def shapes_of(bodies):
     """The bodies, with the places of ring calls left out of account."""
-    heads = {place: ("ring", 0) for place in range(len(bodies))}
+    heads = {("ring", place): ("ring", 0) for place in range(len(bodies))}
     return with_all_heads(bodies, heads)
 
 

@@ -4,6 +4,7 @@ from contentnames.bodies import first_unfit, leads_of, met_from, ring_heads, wit
 from contentnames.contents import mark_of, turned_to
 from contentnames.errors import Unfit
 from contentnames.groups import saying
+from contentnames.order import in_order
 
 
 def rings_of(bodies):
@@ -15,32 +16,21 @@ def rings_of(bodies):
     if unfit is not None:
         raise Unfit(unfit)
     leads = leads_of(bodies)
-    met = [met_from(place, leads) for place in range(len(bodies))]
-    rings = [ring_at(place, met) for place in range(len(bodies))]
-    return in_order([ring for place, ring in enumerate(rings) if place == ring[0]], met)
+    met = [{other: True for other in met_from(place, leads)} for place in range(len(bodies))]
+    rings = [ring for place, ring in enumerate(rings_at(met)) if place == ring[0]]
+    return [rings[number] for number in in_order(ring_needs(rings, leads))]
 
 
-def ring_at(place, met):
-    """The rising list of the places that are of one ring with this one."""
-    return [other for other in range(len(met)) if other in met[place] and place in met[other]]
+def rings_at(met):
+    """For each place the rising list of the places that are of one ring with it, met having those that each meets."""
+    return [[other for other in sorted(ahead) if place in met[other]] for place, ahead in enumerate(met)]
 
 
-def in_order(rings, met):
-    """The rings, each behind those that are met from it; of several that may be next the first of rings."""
-    told = []
-    passed = {}
-    left = rings
-    while left:
-        ring = [other for other in left if is_next(other, met, passed)][0]
-        told.append(ring)
-        passed.update({place: True for place in ring})
-        left = [other for other in left if other != ring]
-    return told
-
-
-def is_next(ring, met, passed):
-    """Whether all that is met from the ring is its own or passed."""
-    return all([place in ring or place in passed for place in met[ring[0]]])
+def ring_needs(rings, leads):
+    """For each ring the list of the numbers of the other rings into which its calls lead."""
+    numbers = {place: number for number, ring in enumerate(rings) for place in ring}
+    led = [sorted({numbers[other] for place in ring for other in leads[place]}) for ring in rings]
+    return [[other for other in needed if other != number] for number, needed in enumerate(led)]
 
 
 def contents_of(bodies):
@@ -60,9 +50,10 @@ def contents_of(bodies):
 
 def ring_contents(bodies, ring, marks):
     """The list of the contents of the ring's places, where marks has those of the places into which it leads."""
-    outer = {place: ("call", mark) for place, mark in marks.items()}
-    inner = ring_heads(ring)
-    alone = with_all_heads([bodies[place] for place in ring], {**outer, **inner})
+    heads = ring_heads(ring)
+    for place, mark in marks.items():
+        heads[("ring", place)] = ("call", mark)
+    alone = with_all_heads([bodies[place] for place in ring], heads)
     numbers = saying(alone)
     single = one_of_each(alone, numbers)
     told = [turned_to(single, number) for number in range(len(single))]
@@ -71,6 +62,6 @@ def ring_contents(bodies, ring, marks):
 
 def one_of_each(bodies, numbers):
     """Of the bodies of each number the first, the places of ring calls being these numbers."""
-    heads = {place: ("ring", number) for place, number in enumerate(numbers)}
+    heads = {("ring", place): ("ring", number) for place, number in enumerate(numbers)}
     firsts = [place for place, number in enumerate(numbers) if place == numbers.index(number)]
     return with_all_heads([bodies[place] for place in firsts], heads)

@@ -9,6 +9,8 @@ MOST_PARTS = 4
 DEEPEST = 8
 # The words of which the terms stand straight behind the word, and how many.
 OPERATIONS = {"add": 2, "less": 2, "times": 2, "under": 2, "if": 3}
+# The words of which what is called stands behind the word, then the parts. Only drafts call by a name.
+CALLS = ("call", "ring", "name")
 
 
 def is_mark(thing):
@@ -66,7 +68,7 @@ def parts_of(term):
     """The terms that stand straight in this one, from left to right."""
     if term[0] in OPERATIONS:
         return term[1:]
-    if term[0] in ("call", "ring"):
+    if term[0] in CALLS:
         return term[2]
     return ()
 
@@ -89,6 +91,11 @@ def size_of(term):
     return len(terms_of(term))
 
 
+def call_terms(term):
+    """The calls in the term, from left to right, each ahead of those in its parts."""
+    return [inner for inner in terms_of(term) if inner[0] in CALLS]
+
+
 def calls_of(term):
     """The rising list of the marks that the term calls."""
     return sorted({inner[1] for inner in terms_of(term) if inner[0] == "call"})
@@ -100,16 +107,15 @@ def places_of(term):
 
 
 def with_heads(term, heads):
-    """The term in which each ring call stands as heads has it for its place.
+    """The term in which each call stands as heads has it.
 
-    Heads is a dict; of a place it has the pair of a word and what stands behind the word, ahead of the parts.
+    Heads is a dict: of a call's word and what it calls it has the pair of these that takes their place. A call
+    of which it has nothing stays as it is.
     """
     parts = tuple([with_heads(part, heads) for part in parts_of(term)])
-    if term[0] == "ring":
-        word, behind = heads[term[1]]
-        return (word, behind, parts)
-    if term[0] == "call":
-        return ("call", term[1], parts)
+    if term[0] in CALLS:
+        word, called = heads.get(term[:2], term[:2])
+        return (word, called, parts)
     if term[0] in OPERATIONS:
         return (term[0], *parts)
     return term

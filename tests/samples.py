@@ -2,6 +2,9 @@
 
 import itertools
 
+from contentnames.contents import mark_of, turned_to
+from contentnames.house import House
+from contentnames.rings import contents_of, rings_of
 from contentnames.termtext import term_in
 
 SIGNS = "0123456789abcdefghijklmnopqrstuvwxyz #@();:"
@@ -181,3 +184,57 @@ def forged(mark, skipped=0):
                 return ((0, ("add", ("num", heads[head]), ("num", number))),)
             skipped -= 1
     raise AssertionError("no content was found for " + mark)
+
+
+def house_with(text):
+    """A house with the contents of the bodies that a text writes, and the marks of these, by places."""
+    bodies = bodies_in(text)
+    contents = contents_of(bodies)
+    house = House()
+    for ring in rings_of(bodies):
+        house.put(contents[ring[0]])
+    return house, [mark_of(content) for content in contents]
+
+
+class Ended(Exception):
+    """A run by hand would be longer than it may be."""
+
+
+def run_by_hand(house, mark, numbers, most):
+    """What a run comes to, its steps, and the calls that are ended in it, by calls within calls of Python's own."""
+    steps = 0
+    ended = []
+
+    def called(mark, numbers):
+        content = house.content(mark)
+        told = begun(content[0][1], numbers, [mark_of(turned_to(content, place)) for place in range(len(content))])
+        ended.append((mark, numbers, told))
+        return told
+
+    def begun(term, numbers, ring):
+        nonlocal steps
+        steps += 1
+        if steps > most:
+            raise Ended()
+        word = term[0]
+        if word == "num":
+            return term[1]
+        if word == "arg":
+            return numbers[term[1]]
+        if word == "if":
+            first = begun(term[1], numbers, ring)
+            return begun(term[2] if first else term[3], numbers, ring)
+        parts = tuple(begun(part, numbers, ring) for part in (term[2] if word in ("call", "ring") else term[1:]))
+        if word in ("call", "ring"):
+            return called(term[1] if word == "call" else ring[term[1]], parts)
+        one, other = parts
+        if word == "under":
+            return int(one < other)
+        return {"add": one + other, "less": one - other, "times": one * other}[word] % 1000003
+
+    return called(mark, tuple(numbers)), steps, ended
+
+
+def marks_told_by(house):
+    """All that a house has: its marks and their contents."""
+    return [(mark, house.content(mark)) for mark in house.marks()]

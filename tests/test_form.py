@@ -19,6 +19,10 @@ INTERFACE = {
     "contents": ["is_content", "content_text", "content_in", "mark_of", "turned_to", "calls_in"],
     "rings": ["rings_of", "contents_of"],
     "house": ["House"],
+    "running": ["ran"],
+    "papers": ["paper_of", "shows_value"],
+    "rows": ["is_name", "row_in", "row_text"],
+    "merging": ["merged", "shows_merged"],
 }
 # Of each class the methods that the interface lists for it.
 METHODS = {

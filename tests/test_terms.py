@@ -104,6 +104,13 @@ class TestIsTerm(unittest.TestCase):
             self.no(("call", MARK, (NUM,) * many))
             self.no(("ring", 3, (ARG,) * many))
 
+    def test_a_call_of_a_name_stands_in_drafts_alone(self):
+        for parts in [(), (NUM,), (ARG, NUM)]:
+            self.no(("name", "f", parts))
+            self.no(("name", MARK, parts))
+            self.no(("add", NUM, ("name", "f", parts)))
+            self.no(("call", MARK, (("name", "f", parts),)))
+
     def test_eight_deep_and_nine_deep(self):
         for word in ["add", "less", "times", "under", "if", "call", "ring"]:
             for deep in range(1, 9):
