@@ -1,5 +1,6 @@
 """What several tests need: things, terms, bodies and contents to ask about, and slow ways to tell the same."""
 
+import functools
 import itertools
 
 from contentnames.contents import mark_of, turned_to
@@ -173,10 +174,16 @@ def reckoned(text, number=7):
     return number
 
 
+@functools.cache
+def heads_to_forge():
+    """Of what texts of additions up to the first number are reckoned to, that number."""
+    shift = pow(131, 7, MODULUS)
+    return {reckoned("0:(add " + str(number) + " ") * shift % MODULUS: number for number in range(10000, 100000)}
+
+
 def forged(mark, skipped=0):
     """Some content of one body that has this mark, another one for each number of skipped ones."""
-    shift = pow(131, 7, MODULUS)
-    heads = {reckoned("0:(add " + str(number) + " ") * shift % MODULUS: number for number in range(10000, 100000)}
+    heads = heads_to_forge()
     for number in range(100000, 1000000):
         head = (int(mark, 36) - reckoned(str(number) + ")", 0)) % MODULUS
         if head in heads:

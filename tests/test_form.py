@@ -2,6 +2,7 @@
 
 import ast
 import importlib
+import inspect
 import pathlib
 import unittest
 
@@ -23,11 +24,38 @@ INTERFACE = {
     "papers": ["paper_of", "shows_value"],
     "rows": ["is_name", "row_in", "row_text"],
     "merging": ["merged", "shows_merged"],
+    "book": ["Book"],
+    "sharing": ["parcel", "unpacked", "pulled"],
+    "deskrows": ["deskrow_in"],
+    "desk": ["Desk"],
+}
+# Of each file, the values that the interface lists under it.
+VALUES = {
+    "marks": {"SIGNS": "0123456789abcdefghijklmnopqrstuvwxyz #@();:"}, "running": {"LIMIT": 1000},
+    "rows": {"ARGS": ("a", "b", "c", "d")}, "merging": {"MINE": "mine", "ITS": "its"}, "desk": {"DEEP": 2},
 }
 # Of each class the methods that the interface lists for it.
 METHODS = {
     ("house", "House"): ["put", "content", "has", "marks", "ring", "calls", "called_by", "all_calls", "like",
                          "__len__", "__eq__"],
+    ("book", "Book"): ["tell", "give", "drop", "mark", "names", "names_of", "rows", "undo", "__len__", "like", "update",
+                       "branch", "take_in"],
+    ("desk", "Desk"): ["ask", "run", "is_open", "log", "house", "book"],
+}
+# How arguments may be handed in: a star ahead of those that go by their names alone, with what stands there else.
+ARGUMENTS = {
+    ("running", "ran"): ["house", "mark", "numbers", "*most=1000"],
+    ("papers", "paper_of"): ["house", "mark", "numbers", "*most=1000"],
+    ("papers", "shows_value"): ["house", "mark", "numbers", "number", "thing"],
+    ("rows", "row_text"): ["name", "many", "draft", "*args=('a', 'b', 'c', 'd')"],
+    ("merging", "merged"): ["base", "one", "other"],
+    ("merging", "shows_merged"): ["base", "one", "other", "thing"],
+    ("book", "Book.take_in"): ["self", "branch", "*wins=None"],
+    ("sharing", "parcel"): ["house", "marks", "*has=()"],
+    ("sharing", "unpacked"): ["house", "contents"],
+    ("sharing", "pulled"): ["house", "other", "marks"],
+    ("desk", "Desk"): ["*most=1000"],
+    ("desk", "Desk.run"): ["self", "rows", "*keep=False", "*deep=2"],
 }
 
 
@@ -65,6 +93,24 @@ class TestForm(unittest.TestCase):
         for (file, name), methods in METHODS.items():
             for method in methods:
                 self.assertIn(method, vars(getattr(importlib.import_module("contentnames." + file), name)))
+
+    def test_values(self):
+        for file, values in VALUES.items():
+            for name, value in values.items():
+                there = vars(importlib.import_module("contentnames." + file))[name]
+                self.assertEqual((there, type(there)), (value, type(value)), name)
+
+    def test_arguments(self):
+        for (file, name), told in ARGUMENTS.items():
+            thing = importlib.import_module("contentnames." + file)
+            for part in name.split("."):
+                thing = getattr(thing, part)
+            there = []
+            for argument in inspect.signature(thing).parameters.values():
+                alone = argument.kind == inspect.Parameter.KEYWORD_ONLY
+                default = "" if argument.default is inspect.Parameter.empty else f"={argument.default!r}"
+                there.append("*" * alone + argument.name + default)
+            self.assertEqual(there, told, name)
 
 
 if __name__ == "__main__":
