@@ -25,9 +25,9 @@ def planned(house, names, drafts, old):
 
     What waits is a dict: of each mark that does it has the pair (word, what).
     """
-    rows = {name: True for name in names_in(drafts)}
-    starts = [mark for name, mark in names.items() if name not in rows]
-    touched = touched_marks(house, starts + marks_called(drafts, heads_of(drafts, names, old)), old)
+    # The names of the rows led to old marks, which are never touched: so no name has to be left out here.
+    starts = list(names.values()) + marks_called(drafts, heads_of(drafts, names, old))
+    touched = touched_marks(house, starts, old)
     waits = waits_of(house, touched, drafts, old)
     moved = [mark for mark in touched if mark not in waits]
     places = {mark: len(drafts) + number for number, mark in enumerate(moved)}
